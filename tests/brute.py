@@ -73,3 +73,55 @@ def random_row(rng, many, most_area=4, most_volume=5, locked=0.0):
 def random_order(rng, row, many):
     weirs = row.weirs()
     return [rng.choice(weirs) for _ in range(many)] if weirs else []
+
+
+def weight(row, volumes):
+    return sum(volume * volume / area for volume, area in zip(volumes, row.areas))
+
+
+def longest_by_trying(row, width):
+    """How many openings the longest order has all of whose openings find a difference of the width or more."""
+    levels = heights(row, after(row, []))
+    found = [0]
+    for weir in row.weirs():
+        if abs(levels[weir - 1] - levels[weir]) >= width:
+            found.append(1 + longest_by_trying(row.opened(weir), width))
+    return max(found)
+
+
+def poured(row, parts):
+    """The volumes behind openings in part."""
+    volumes = after(row, [])
+    for weir, share in parts:
+        late = opened(row.areas, volumes, weir)
+        volumes = [early + fraction(share) * (end - early) for early, end in zip(volumes, late)]
+    return volumes
+
+
+def falling_row(rng, many, most_area=3, most_height=6, locked=0.0):
+    from weirlines.rows import Row
+    areas = tuple(rng.randint(1, most_area) for _ in range(many))
+    levels = sorted([Fraction(rng.randint(0, most_height), rng.randint(1, 2)) for _ in range(many)], reverse=True)
+    locks = [weir for weir in range(1, many) if rng.random() < locked]
+    return Row(areas, tuple(pair(level * area) for level, area in zip(levels, areas)), locks)
+
+
+def round_openings(told, many):
+    """The weirs that one round of a program opens."""
+    if told == ("right",):
+        return list(range(1, many))
+    if told == ("left",):
+        return list(range(1, many))[::-1]
+    return list(range(told[2] or told[1], many, told[1]))
+
+
+def program_done(rounds, volumes):
+    """The volumes behind rounds, as fractions."""
+    late = [fraction(volume) for volume in volumes]
+    for told in rounds:
+        for weir in round_openings(told, len(late)):
+            late[weir - 1] = late[weir] = (late[weir - 1] + late[weir]) / 2
+    return late
+
+
+ALL_ROUNDS = [("right",), ("left",)] + [("every", step, rest) for step in (2, 3, 4) for rest in range(step)]

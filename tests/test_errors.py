@@ -1,6 +1,6 @@
 import unittest
 
-from weirlines import errors
+from weirlines import errors, planerrors
 
 
 class ErrorClasses(unittest.TestCase):
@@ -18,3 +18,20 @@ class ErrorClasses(unittest.TestCase):
         self.assertIsNone(errors.BadOrder(None).place)
         self.assertEqual(errors.Unlike("areas").what, "areas")
         self.assertEqual(errors.NotFalling(2).number, 2)
+
+
+class PlanErrorClasses(unittest.TestCase):
+    def test_direct_subclasses(self):
+        for name in ("BadProgram", "BadStart", "BadText", "NoName", "Claimed", "NothingDone", "Mixed"):
+            self.assertEqual(getattr(planerrors, name).__bases__, (errors.WeirError,), name)
+
+    def test_attributes(self):
+        self.assertEqual(planerrors.BadProgram(3).place, 3)
+        self.assertIsNone(planerrors.BadProgram(None).place)
+        told = planerrors.BadText(2, 7)
+        self.assertEqual((told.line, told.column), (2, 7))
+        self.assertEqual(planerrors.NoName("a").name, "a")
+        self.assertEqual(planerrors.Claimed(0).number, 0)
+        self.assertIsInstance(planerrors.BadStart("so"), ValueError)
+        self.assertIsInstance(planerrors.NothingDone(), ValueError)
+        self.assertIsInstance(planerrors.Mixed(), ValueError)

@@ -18,6 +18,14 @@ LISTED = {
               "runs": None, "limit": None, "settling": None, "rounds_within": None},
     "sameness": {"Same": ("__init__", "shows", "__eq__", "__bool__"), "Differ": ("__init__", "shows", "__eq__", "__bool__"),
                  "judge_orders": None, "tidy": None},
+    "weights": {"Longest": ("__init__", "shows", "__eq__"), "weight": None, "even_weight": None, "falls": None,
+                "difference": None, "bar": None, "longest": None},
+    "pouring": {"Poured": ("__init__", "shows", "__eq__", "__bool__"), "Rising": ("__init__", "shows", "__eq__", "__bool__"),
+                "Over": ("__init__", "shows", "__eq__", "__bool__"), "Straight": ("__init__", "shows", "__eq__", "__bool__"),
+                "poured": None, "judge_goal": None, "near_goal": None},
+    "planerrors": {"BadProgram": (), "BadStart": (), "BadText": (), "NoName": (), "Claimed": (), "NothingDone": (),
+                   "Mixed": ()},
+    "programs": {"Program": ("__init__", "order", "done", "__len__", "__add__", "__eq__")},
     "turns": {"Sinking": ("__init__", "shows", "__eq__"), "turns": None, "signs": None, "flats": None, "peaks": None,
               "turns_left": None, "sinking": None},
 }
@@ -81,3 +89,25 @@ class Examples(unittest.TestCase):
         row = Row((1, 1, 1, 1, 1), (2, 5, 1, 1, 3))
         self.assertEqual([peaks(row), sinking(row, [1, 4, 2]).numbers, turns_left(row)],
                          [[(1, 2), (4, 5)], [2, 1, 1, 0], {1: 1, 2: 2, 3: 2, 4: 2}])
+
+    def test_weights(self):
+        from weirlines.rows import Row
+        from weirlines.weights import bar, falls, longest, weight
+        row = Row((1, 1, 1), (0, 0, 4))
+        self.assertEqual([weight(row), falls(row, [2, 1]), bar(row, 1), longest(row, 1).order],
+                         [(16, 1), [(8, 1), (2, 1)], 21, [2, 1, 2]])
+
+    def test_pouring(self):
+        from weirlines.pouring import judge_goal, poured
+        from weirlines.rows import Row
+        row, goal = Row((1, 1, 1), (6, 0, 0)), Row((1, 1, 1), (3, 2, 1))
+        told = judge_goal(row, goal)
+        self.assertEqual(
+            [poured(row, told.parts) == goal, judge_goal(row, Row((1, 1, 1), (2, 2, 2))).weir, judge_goal(goal, row).place],
+            [True, 1, 1])
+
+    def test_programs(self):
+        from weirlines.programs import Program
+        program = Program([("every", 2, 1), ("right",)])
+        self.assertEqual([program.order(5), program.done([8, 0, 0, 4])],
+                         [[1, 3, 1, 2, 3, 4], ((4, 1), (3, 1), (5, 2), (5, 2))])

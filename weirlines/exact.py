@@ -50,6 +50,14 @@ def is_less(one, other):
     return one[0] * other[1] < other[0] * one[1]
 
 
+def common_bottom(fractions):
+    """The least number that the bottoms of all these fractions divide."""
+    bottom = 1
+    for _, below in fractions:
+        bottom = lcm(bottom, below)
+    return bottom
+
+
 class Line:
     """The line of a row: the points of the area and the water of its first 0, 1, .. basins.
 
@@ -58,9 +66,7 @@ class Line:
     """
 
     def __init__(self, areas, sums):
-        bottom = 1
-        for _, below in sums:
-            bottom = lcm(bottom, below)
+        bottom = common_bottom(sums)
         self.areas = areas
         self.bottom = bottom
         self.tops = [top * (bottom // below) for top, below in sums]
