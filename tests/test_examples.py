@@ -26,6 +26,14 @@ LISTED = {
     "planerrors": {"BadProgram": (), "BadStart": (), "BadText": (), "NoName": (), "Claimed": (), "NothingDone": (),
                    "Mixed": ()},
     "programs": {"Program": ("__init__", "order", "done", "__len__", "__add__", "__eq__")},
+    "turning": {"turned_back": None, "gives": None, "got": None, "is_even_handed": None},
+    "allrows": {"SameAlways": ("__init__", "shows", "__eq__", "__bool__"),
+                "FirstUnlike": ("__init__", "shows", "__eq__", "__bool__"),
+                "Later": ("__init__", "shows", "__eq__", "__bool__"), "judge_programs": None, "tidy_program": None,
+                "judge_later": None},
+    "amounts": {"Recurrence": ("__init__", "shows", "value", "__len__", "__eq__", "__bool__"), "amount": None,
+                "amounts": None, "recurrence": None},
+    "plantexts": {"Plan": ("__init__", "__len__", "__contains__", "__eq__"), "read_plan": None, "write_plan": None},
     "turns": {"Sinking": ("__init__", "shows", "__eq__"), "turns": None, "signs": None, "flats": None, "peaks": None,
               "turns_left": None, "sinking": None},
 }
@@ -111,3 +119,34 @@ class Examples(unittest.TestCase):
         program = Program([("every", 2, 1), ("right",)])
         self.assertEqual([program.order(5), program.done([8, 0, 0, 4])],
                          [[1, 3, 1, 2, 3, 4], ((4, 1), (3, 1), (5, 2), (5, 2))])
+
+    def test_allrows(self):
+        from weirlines.allrows import judge_programs, tidy_program
+        from weirlines.programs import Program
+        odd, even, right = ("every", 2, 1), ("every", 2, 0), ("right",)
+        self.assertEqual([judge_programs(Program([odd, odd]), Program([odd])).most,
+                          tidy_program(Program([odd, odd, even, even])).rounds == (odd, even)], [15, True])
+        found = judge_programs(Program([odd, even]), Program([right]))
+        self.assertEqual([found.many, found.basin, found.place], [4, 0, 2])
+
+    def test_amounts(self):
+        from weirlines.amounts import amount, recurrence
+        from weirlines.programs import Program
+        found = recurrence(Program([("right",)]), "first", 0)
+        self.assertEqual([amount(Program([("right",)]), "first", 0, 4), found.factors, found.value(9)],
+                         [(1, 8), [(1, 2)], (1, 512)])
+
+    def test_plantexts(self):
+        from weirlines.plantexts import read_plan, write_plan
+        plan = read_plan("areas 1 2 1 # three\nvolumes 4 0 1/2\norder to: 1 2\norder fro: 2(to 1) to\n"
+                         "program p: 2(odd even) 3:0")
+        self.assertEqual([plan.orders["fro"], len(plan), write_plan(plan).split("\n")[2]],
+                         [[1, 2, 1, 1, 2, 1, 1, 2], 3, "order fro: 2(1 2 1) 1 2"])
+
+    def test_turning(self):
+        from weirlines.programs import Program
+        from weirlines.turning import gives, got, is_even_handed, turned_back
+        program = Program([("right",)])
+        self.assertEqual(
+            [turned_back(program).rounds, gives(program, 3, 0), got(program, 3, 2), is_even_handed(program, 3)],
+            [(("left",),), ((1, 2), (1, 4), (1, 4)), ((1, 4), (1, 4), (1, 2)), False])

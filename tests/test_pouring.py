@@ -42,6 +42,7 @@ class Pours(unittest.TestCase):
         self.assertEqual(poured(row, [(1, (3, 3))]), row.opened(1))
         self.assertEqual(poured(row, [(1, (1, 2))]).volumes, ((4, 1), (2, 1)))
         self.assertEqual(poured(row, []), row)
+        self.assertEqual(poured(row, [(1, 0)] * 20000), row)
 
     def test_no_bound_is_passed(self):
         rng = random.Random(2)

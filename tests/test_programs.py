@@ -75,6 +75,7 @@ class Programs(unittest.TestCase):
         self.assertIsInstance(both, Program)
         self.assertEqual(Program([]) + Program([]), Program([]))
         self.assertEqual(len(Program([ODD] * 6) + Program([EVEN] * 6)), 12)
+        self.assertRaises(TypeError, lambda: Program([ODD]) + (ODD,))
         one = Program([ODD])
         one + one
         self.assertEqual(one.rounds, (ODD,))

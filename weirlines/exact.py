@@ -27,6 +27,11 @@ def exact(told):
     return (told, 1)
 
 
+def is_exact(thing):
+    """Whether something is a fraction as it is returned: a pair without a common divisor."""
+    return isinstance(thing, tuple) and is_fraction(thing) and exact(thing) == thing
+
+
 def plus(one, other):
     # Only what the bottoms share can be left to reduce, which spares a division of the long numbers.
     shared = gcd(one[1], other[1])

@@ -1,7 +1,7 @@
 """The weight of a row, which falls with each opening, and how many openings can find a difference."""
 
 from weirlines.errors import BadWeir
-from weirlines.exact import exact, is_fraction, is_integer, is_less, minus, plus, reduced, times
+from weirlines.exact import exact, is_exact, is_integer, is_less, minus, plus, reduced, times
 from weirlines.rows import check_order, check_row, check_width, line_of, with_volumes
 
 
@@ -159,4 +159,4 @@ def are_volumes(row, told):
     """Whether these are volumes for a row, as fractions without a common divisor."""
     if len(told) != len(row):
         return False
-    return all([is_fraction(volume) and exact(volume) == volume and volume[0] >= 0 for volume in told])
+    return all([is_exact(volume) and volume[0] >= 0 for volume in told])
