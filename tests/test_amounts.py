@@ -161,6 +161,7 @@ class Recurrences(unittest.TestCase):
         for factors, firsts in ((told.factors[1:], told.firsts), (told.factors, told.firsts[:-1]), ([], told.firsts),
                                 (told.factors, []), ([(0, 1)] + told.factors, told.firsts)):
             self.assertIs(Recurrence(factors, firsts).shows(program, "stairs", 1), False)
+        self.assertIs(Recurrence([], [(0, 1)]).shows(Program([]), "last", 2), False)
         for other in (("ones", 1), ("stairs", 2)):
             self.assertFalse(told.shows(program, *other))
         self.assertFalse(told.shows(Program([ODD, RIGHT]), "stairs", 1))

@@ -127,7 +127,7 @@ class Refused(unittest.TestCase):
             self.check(text, line, column)
 
     def test_areas(self):
-        for line, column in (("areas", 6), ("areas  # none", 14), ("area 1", 1), ("Areas 1", 1), ("areas 0", 7), ("areas 1 1001", 9),
+        for line, column in (("areas", 6), ("areas  # none", 14), ("area 1", 1), ("Areas 1", 1), ("areas 0", 7), ("areas 1 1001", 9), ("areas 1 0", 9), ("areas " + "9" * 5000, 7),
                              ("areas 01", 7), ("areas 1 2 x", 11), ("areas 1/2", 8), ("areas: 1", 6), ("areas 1,2", 8),
                              ("areas -1", 7), ("areas 1 1000000", 9), ("areas\t1", 6), ("areas 1\r", 8), ("areas 1 areas", 9),
                              ("areas" + " 1" * 25, 55), ("areasx 1", 1), ("3 areas", 1)):
@@ -145,6 +145,7 @@ class Refused(unittest.TestCase):
         for line, column in (("locks", 6), ("locks # 1", 10), ("locks 0", 7), ("locks 3", 7), ("locks 2 1", 9), ("locks 1 1", 9),
                              ("locks 1 2 3", 11), ("locks 1 x", 9), ("locks: 1", 6), ("lock 1", 1), ("locks 01", 7)):
             self.check(HEAD + line, 3, column)
+        self.check("areas 1 1 1 1\nvolumes 1 1 1 1\nlocks 1 3 2", 3, 11)
         self.check("areas 1\nvolumes 1\nlocks 1", 3, 7)
         self.check("areas 1\nvolumes 1\nlocks", 3, 6)
 
@@ -214,6 +215,8 @@ class Refused(unittest.TestCase):
         text = HEAD + "".join([f"order {name}:\n" for name in "abcdefghijkl"])
         self.check(text + "\n  order m: 1", 16, 3)
         self.check(text + "program m:", 15, 1)
+        text = HEAD + "".join([f"order {name}:\nprogram {name}{name}:\n" for name in "abcdef"])
+        self.check(text + "order m:", 15, 1)
 
     def test_the_first_that_does_not_fit(self):
         self.check("areas 1 x 2\nvolumes", 1, 9)

@@ -129,7 +129,6 @@ def fewest_factors(numbers):
         if 2 * size <= at:
             earlier, missed, since, size = weights, off, 0, at + 1 - size
         weights = mended
-    weights = weights + [(0, 1)] * (size + 1 - len(weights))
     return [minus((0, 1), weight) for weight in weights[:0:-1]]
 
 

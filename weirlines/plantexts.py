@@ -49,8 +49,8 @@ class Scanner:
         return self.tokens[self.at][0]
 
     def text_behind(self):
-        """What comes behind that."""
-        return self.tokens[min(self.at + 1, len(self.tokens) - 1)][0]
+        """What comes behind that, where it is not the end of the line."""
+        return self.tokens[self.at + 1][0]
 
     def here(self):
         """The column of what comes next."""
@@ -163,6 +163,7 @@ def end_of_token(line, at):
 
 def is_number(text):
     """Whether a token is a number that can stand in a text."""
+    # Longer ones are not even made to integers: Python refuses to do so from some thousands of figures on.
     if text == "" or text[0] not in FIGURES:
         return False
     return text == "0" or (text[0] != "0" and len(text) <= MOST_FIGURES)

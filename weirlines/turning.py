@@ -35,7 +35,6 @@ def gives(program, many, basin):
 
 def got(program, many, basin):
     """The shares that one basin has behind a program of the water of each."""
-    check_basin(program, many, basin)
     # What a basin gives to this one in the program, this one gives to it in the program turned back.
     return gives(turned_back(program), many, basin)
 
