@@ -167,16 +167,18 @@ def lowered(row, goal, width):
     """Openings in part that bring the points of a row's line down to those of the goal but for a width at most.
 
     No point ever rises, and the lower the others are, the further it can come down: so each opening lowers its point
-    as far as it can, but not below the goal. The next one is the one that lowers its point by most.
+    as far as it can, but not below the goal. The next one is always one that takes much of the weight: in trials this
+    made the shortest lists, ahead of lowering by most and of sweeps from end to end.
     """
     unit = common_bottom([*row.sums(), *goal.sums()]) * width[1] * FINENESS
     levels = [top * (unit // bottom) for top, bottom in row.sums()]
     wanted = [top * (unit // bottom) for top, bottom in goal.sums()]
     allowed = width[0] * (unit // width[1])
+    heavy = {weir: FINENESS // row.areas[weir - 1] + FINENESS // row.areas[weir] for weir in row.weirs()}
     parts = []
     while max([level - want for level, want in zip(levels, wanted)]) > allowed:
         aims = {weir: aim_at(row.areas, levels, wanted, weir) for weir in row.weirs()}
-        weir = max(row.weirs(), key=lambda at: levels[at] - aims[at])
+        weir = max(row.weirs(), key=lambda at: (levels[at] - aims[at]) ** 2 * heavy[at])
         parts.append((weir, share_to(row.areas, levels, weir, aims[weir])))
         levels[weir] = aims[weir]
     return parts
