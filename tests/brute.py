@@ -125,3 +125,40 @@ def program_done(rounds, volumes):
 
 
 ALL_ROUNDS = [("right",), ("left",)] + [("every", step, rest) for step in (2, 3, 4) for rest in range(step)]
+
+
+def coast_opened(coast, volumes, weir):
+    """The volumes behind an opening of a coast, and what it brings in from the left."""
+    late = list(volumes)
+    if 0 < weir < len(late):
+        return opened(coast.row.areas, late, weir), Fraction(0)
+    basin, sea = (0, coast.left) if weir == 0 else (len(late) - 1, coast.right)
+    late[basin] = fraction(sea) * coast.row.areas[basin]
+    return late, late[0] - volumes[0] if weir == 0 else Fraction(0)
+
+
+def coast_after(coast, order, volumes=None):
+    """The volumes behind an order of a coast, and what it brings in from the left, less what goes out there."""
+    late = [fraction(volume) for volume in (coast.row.volumes if volumes is None else volumes)]
+    flow = Fraction(0)
+    for weir in order:
+        late, more = coast_opened(coast, late, weir)
+        flow += more
+    return late, flow
+
+
+def parts(areas, order):
+    """What becomes of a volume of 1 in each basin alone."""
+    found = []
+    for basin in range(len(areas)):
+        volumes = [Fraction(int(at == basin)) for at in range(len(areas))]
+        for weir in order:
+            volumes = opened(areas, volumes, weir)
+        found.append(volumes)
+    return found
+
+
+def turned_about(row):
+    """The row with its last basin first."""
+    from weirlines.rows import Row
+    return Row(row.areas[::-1], row.volumes[::-1], [len(row) - lock for lock in row.locks])

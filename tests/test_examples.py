@@ -34,6 +34,25 @@ LISTED = {
     "amounts": {"Recurrence": ("__init__", "shows", "value", "__len__", "__eq__", "__bool__"), "amount": None,
                 "amounts": None, "recurrence": None},
     "plantexts": {"Plan": ("__init__", "__len__", "__contains__", "__eq__"), "read_plan": None, "write_plan": None},
+    "books": {"Book": ("__init__", "__getitem__", "__contains__", "__len__", "__iter__", "titles", "claims", "put",
+                       "claim_never", "claim_alike", "pour", "fill", "drop", "undo", "attempt")},
+    "origins": {"Shares": ("__init__", "shows", "overtaken", "ahead", "__eq__", "__bool__"), "shares": None,
+                "sources": None},
+    "shapes": {"More": ("__init__", "shows", "__eq__", "__bool__"), "Less": ("__init__", "shows", "__eq__", "__bool__"),
+               "Dominant": ("__init__", "shows", "__eq__", "__bool__"),
+               "Rivals": ("__init__", "shows", "__eq__", "__bool__"), "judge_more": None, "judge_dominant": None},
+    "seas": {"Coast": ("__init__", "__contains__", "__eq__", "opened"), "after": None, "inflow": None, "is_washed": None,
+             "Cycle": ("__init__", "shows", "__eq__", "__bool__"), "cycle": None, "far_bounds": None},
+    "guarding": {"Guard": ("__init__", "shows", "__eq__", "__bool__"), "guards": None, "loosened": None},
+    "laps": {"lapped": None, "stretches": None, "lap_limit": None, "left_behind": None, "moved": None,
+             "LapsDone": ("__init__", "shows", "__eq__", "__bool__"), "LapsLeft": ("__init__", "shows", "__eq__", "__bool__"),
+             "judge_laps": None, "LapRecurrence": ("__init__", "shows", "__len__", "__eq__", "__bool__"),
+             "lap_recurrence": None, "EvenAlways": ("__init__", "shows", "__eq__", "__bool__"),
+             "Parted": ("__init__", "shows", "__eq__", "__bool__"), "judge_even": None},
+    "fewrounds": {"FewRounds": ("__init__", "shows", "__eq__", "__bool__"), "few_rounds": None,
+                  "different_programs": None},
+    "rooms": {"counted": None, "room": None, "drain": None, "Room": ("__init__", "shows", "__eq__", "__bool__"),
+              "share_out": None},
     "turns": {"Sinking": ("__init__", "shows", "__eq__"), "turns": None, "signs": None, "flats": None, "peaks": None,
               "turns_left": None, "sinking": None},
 }
@@ -150,3 +169,72 @@ class Examples(unittest.TestCase):
         self.assertEqual(
             [turned_back(program).rounds, gives(program, 3, 0), got(program, 3, 2), is_even_handed(program, 3)],
             [(("left",),), ((1, 2), (1, 4), (1, 4)), ((1, 4), (1, 4), (1, 2)), False])
+
+    def test_books(self):
+        from weirlines.books import Book
+        from weirlines.rows import Row
+        book = Book()
+        book.put("a", Row((1, 1, 1), (3, 0, 0)))
+        self.assertEqual([book.claim_never("a", 1, 3).number, book.pour("a", 1, 2).volumes, book.claims()],
+                         [(3, 1), ((3, 2), (3, 4), (3, 4)), [("never", "a", 1, (3, 1))]])
+
+    def test_origins(self):
+        from weirlines.origins import shares, sources
+        from weirlines.rows import Row
+        told = shares((1, 1, 1), [1, 2])
+        self.assertEqual(
+            [told.columns[0], told.overtaken(), told.ahead(1), sources(Row((1, 1, 1), (0, 0, 0)), [2, 1], 0)],
+            [((1, 2), (1, 4), (1, 4)), None, [(1, 2), (1, 2), (0, 1)], (0, 3)])
+
+    def test_shapes(self):
+        from weirlines.shapes import judge_dominant, judge_more
+        self.assertEqual(
+            [judge_more((1, 1, 1), [2, 1], [1, 2], 1, "rising").gains, bool(judge_more((1, 1, 1), [2, 1], [1, 2], 1)),
+             judge_dominant((1, 1, 1), 1, 2, "rising").order],
+            [[(0, 1), (0, 1), (1, 4)], False, [2, 1]])
+
+    def test_seas(self):
+        from weirlines.rows import Row
+        from weirlines.seas import Coast, cycle, far_bounds
+        coast = Coast(Row((1, 1), (0, 0)), 6, 0)
+        self.assertEqual([cycle(coast, [0, 1, 2]).volumes, cycle(coast, [0, 1, 2]).flow,
+                          far_bounds(Coast(Row((1, 1), (3, 0)), 1), 1)],
+                         [((3, 1), (0, 1)), (3, 1), ((0, 1), (3, 2))])
+
+    def test_guarding(self):
+        from weirlines.guarding import guards, loosened
+        from weirlines.rows import Row
+        row = Row((1, 1, 1, 1), (0, 1, 0, 8))
+        found = guards(row, [1, 3], 2, 2)
+        self.assertEqual(
+            [found.locks, found.against, guards(row, [1], 2, 1), loosened(Row((1, 1, 1), (0, 0, 3), [1, 2]), 1, 1)],
+            [[3], {(): (9, 2)}, None, [1, 2]])
+
+    def test_laps(self):
+        from weirlines.laps import judge_even, judge_laps, lap_recurrence, left_behind, stretches
+        from weirlines.programs import Program
+        odd, even = ("every", 2, 1), ("every", 2, 0)
+        self.assertEqual(
+            [stretches(Program([odd]), 5), judge_laps(Program([odd]), 5).laps, judge_laps(Program([odd, even]), 3).place],
+            [[(0, 2), (2, 4), (4, 5)], 1, 0])
+        self.assertEqual(
+            [left_behind(Program([odd, even]), 3, 1), lap_recurrence(Program([odd, even]), [4, 0, 0], 0).factors],
+            [(1, 3), [(-1, 4), (5, 4)]])
+        self.assertEqual([judge_even(Program([odd, even])).rounds, judge_even(Program([("every", 3, 1), even])).weir],
+                         [[1, 0], 3])
+
+    def test_fewrounds(self):
+        from weirlines.fewrounds import different_programs, few_rounds
+        from weirlines.programs import Program
+        odd, even = ("every", 2, 1), ("every", 2, 0)
+        found = few_rounds(Program([odd, odd, even]), [odd, even])
+        self.assertEqual([found.rounds, found.against[()], len(different_programs([odd, even], 3))],
+                         [(("every", 2, 1), ("every", 2, 0)), (2, 0, 0), 7])
+
+    def test_rooms(self):
+        from weirlines.rooms import counted, drain, room, share_out
+        from weirlines.rows import Row
+        row = Row((1, 1, 1, 1), (0, 0, 2, 2))
+        self.assertEqual([counted(row, 1), room(row, 3, 1, 2).volume, room(row, 0, 4, 4).volume, drain(row, 3, 2, 1),
+                          share_out(row, {1: 1, 3: 4})],
+                         [[(1, 4), (1, 4), (1, 4), (1, 4)], (4, 1), (0, 1), None, [(0, 1), (0, 1), (0, 1), (0, 1)]])

@@ -61,9 +61,17 @@ class Later:
 def check_pair(one, other):
     check_program(one)
     check_program(other)
-    kinds = [told[0] for told in one.rounds + other.rounds]
-    if "right" in kinds and "left" in kinds:
+    check_unmixed(one.rounds + other.rounds)
+
+
+def check_unmixed(rounds):
+    if are_mixed(rounds):
         raise Mixed("rounds to the right and to the left")
+
+
+def are_mixed(rounds):
+    """Whether there are rounds to the right and to the left among some."""
+    return ("right",) in rounds and ("left",) in rounds
 
 
 def common_step(one, other):

@@ -55,6 +55,22 @@ def is_less(one, other):
     return one[0] * other[1] < other[0] * one[1]
 
 
+def largest(fractions):
+    """The greatest of some fractions, at least one."""
+    most = fractions[0]
+    for number in fractions:
+        if is_less(most, number):
+            most = number
+    return most
+
+
+def total_of(fractions):
+    total = (0, 1)
+    for number in fractions:
+        total = plus(total, number)
+    return total
+
+
 def common_bottom(fractions):
     """The least number that the bottoms of all these fractions divide."""
     bottom = 1
@@ -68,10 +84,11 @@ class Line:
 
     The water is held as integers over bottoms. All bottoms divide the common one, `bottom`, and a point is
     brought to it only when it is used: this needs no common divisors of long numbers, however long an order is.
+    It is a multiple of the bottoms of some other fractions, too, if these are told.
     """
 
-    def __init__(self, areas, sums):
-        bottom = common_bottom(sums)
+    def __init__(self, areas, sums, others=()):
+        bottom = common_bottom([*sums, *others])
         self.areas = areas
         self.bottom = bottom
         self.tops = [top * (bottom // below) for top, below in sums]

@@ -32,6 +32,10 @@ class Best:
 def check_asked(row, place, many):
     check_row(row)
     check_place(row, place)
+    check_many_openings(many)
+
+
+def check_many_openings(many):
     if not is_integer(many) or not 0 <= many <= MOST_FEW:
         raise BadNumber("so many openings are an integer from 0 to 8")
 
