@@ -27,42 +27,37 @@ def all_rooms(row, basin, place, number):
     if greatest is None:
         return []
     late = added(row, basin, greatest)
-    points = [Fraction(0)]
-    for volume in late.volumes:
-        points.append(points[-1] + fraction(volume))
-    far = [sum(row.areas[:at]) for at in range(len(row) + 1)]
-    found = []
-    for one in range(place + 1):
-        for other in range(place, len(row) + 1):
-            if one == other or any(one < lock < other for lock in row.locks):
-                continue
-            level = points[one] + (points[other] - points[one]) * (far[place] - far[one]) / (far[other] - far[one])
-            if level == number and share(row, far, one, other, place, basin) > 0:
-                found.append(Room(pair(greatest), one, other))
-    return found
+    return [Room(pair(greatest), one, other) for one, other, level in lines(late, place)
+            if level == number and share(row, one, other, place, basin) > 0]
 
 
-def share(row, far, one, other, place, basin):
-    if basin < one:
-        return Fraction(1)
-    return Fraction(0) if basin >= other else Fraction(far[place] - far[one], far[other] - far[one])
-
-
-def room_by_lines(row, basin, place, number):
-    """The greatest volume that can be added, from all pairs of points; None if there is no end."""
+def lines(row, place):
+    """All pairs of points around a place, between the same locks, with the number that they tell there."""
     points = [Fraction(0)]
     for volume in row.volumes:
         points.append(points[-1] + fraction(volume))
     far = [sum(row.areas[:at]) for at in range(len(row) + 1)]
-    found = []
     for one in range(place + 1):
-        for other in range(place, len(row) + 1):
-            if one == other or any(one < lock < other for lock in row.locks):
-                continue
-            counts = share(row, far, one, other, place, basin)
-            level = points[one] + (points[other] - points[one]) * (far[place] - far[one]) / (far[other] - far[one])
-            if counts > 0:
-                found.append((number - level) / counts)
+        for other in range(max(place, one + 1), len(row) + 1):
+            if not any(one < lock < other for lock in row.locks):
+                rise = (points[other] - points[one]) / (far[other] - far[one])
+                yield one, other, points[one] + rise * (far[place] - far[one])
+
+
+def share(row, one, other, place, basin):
+    """By how much a basin counts for the line through two points."""
+    if basin < one:
+        return Fraction(1)
+    return Fraction(0) if basin >= other else Fraction(sum(row.areas[one:place]), sum(row.areas[one:other]))
+
+
+def room_by_lines(row, basin, place, number):
+    """The greatest volume that can be added, from all pairs of points; None if there is no end."""
+    found = []
+    for one, other, level in lines(row, place):
+        counts = share(row, one, other, place, basin)
+        if counts > 0:
+            found.append((number - level) / counts)
     return min(found, default=None)
 
 
@@ -86,13 +81,9 @@ class Counted(unittest.TestCase):
 
     def points(self, row, place, told):
         """Two points by which basins count just so, as in a High."""
-        far = [sum(row.areas[:at]) for at in range(len(row) + 1)]
-        for one in range(place + 1):
-            for other in range(place, len(row) + 1):
-                if one == other or any(one < lock < other for lock in row.locks):
-                    continue
-                if told == [pair(share(row, far, one, other, place, basin)) for basin in range(len(row))]:
-                    return one, other
+        for one, other, _ in lines(row, place):
+            if told == [pair(share(row, one, other, place, basin)) for basin in range(len(row))]:
+                return one, other
         self.fail((row.areas, row.volumes, row.locks, place, told))
 
     def test_never_above_the_bound_for_other_points(self):

@@ -2,12 +2,12 @@
 
 from weirlines.allrows import are_mixed, judge_programs
 from weirlines.bounds import highest
-from weirlines.errors import BadNumber, BadOrder, BadRow
-from weirlines.exact import exact, is_fraction, is_integer, is_less
+from weirlines.errors import BadOrder, BadRow
+from weirlines.exact import exact, is_amount, is_integer, is_less
 from weirlines.planerrors import BadProgram, Claimed, NoName, NothingDone
 from weirlines.plantexts import LETTERS, is_name
 from weirlines.programs import Program
-from weirlines.rows import Row, behind, with_volumes
+from weirlines.rows import Row, behind, check_number, with_volumes
 
 
 class Book:
@@ -53,8 +53,7 @@ class Book:
         """The most that the first basins of a row can ever have, and the claim that it is at most a number, if so."""
         row = row_held(self.held, name)
         found = highest(row, place)
-        if not is_fraction(number):
-            raise BadNumber("a number is a fraction")
+        check_number(number)
         if not is_less(exact(number), found.number):
             self.made = (*self.made, ("never", name, place, exact(number)))
         return found
@@ -77,7 +76,7 @@ class Book:
         row = row_held(self.held, name)
         if not is_integer(basin) or not 0 <= basin < len(row):
             raise BadOrder(None)
-        if not is_fraction(volume) or is_less(exact(volume), (0, 1)):
+        if not is_amount(volume):
             raise BadRow("a volume is a fraction from 0 on")
         late = with_volumes(row, [*row.volumes[:basin], exact(volume), *row.volumes[basin + 1:]])
         self.change(name, {**self.held, name: late})

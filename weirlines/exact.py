@@ -14,6 +14,11 @@ def is_fraction(thing):
     return len(thing) == 2 and is_integer(thing[0]) and is_integer(thing[1]) and thing[1] >= 1
 
 
+def is_amount(thing):
+    """Whether something tells a fraction from 0 on."""
+    return is_fraction(thing) and (thing[0] if isinstance(thing, tuple) else thing) >= 0
+
+
 def reduced(top, bottom):
     """The pair without a common divisor, for a bottom from 1 on."""
     shared = gcd(top, bottom)

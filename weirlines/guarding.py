@@ -1,9 +1,9 @@
 """Locks that keep the water in the first basins down, and locks that are not needed for it."""
 
 from weirlines.bounds import highest
-from weirlines.errors import BadNumber, BadWeir
-from weirlines.exact import exact, is_fraction, is_integer, is_less
-from weirlines.rows import Row, check_place, check_row
+from weirlines.errors import BadWeir
+from weirlines.exact import exact, is_integer, is_less
+from weirlines.rows import Row, check_number, check_place, check_row
 
 # More locks than one on either side of a place never matter to it.
 MOST_NEEDED = 2
@@ -45,8 +45,7 @@ def check_choices(row, choices):
 
 def check_bound(row, place, number):
     check_place(row, place)
-    if not is_fraction(number):
-        raise BadNumber("a number is a fraction")
+    check_number(number)
 
 
 def bound_with(row, more, place):

@@ -1,8 +1,8 @@
 """The most water that few openings can bring into the first basins."""
 
 from weirlines.errors import BadNumber
-from weirlines.exact import exact, is_fraction, is_integer, is_less, minus, plus, reduced, times
-from weirlines.rows import behind, check_order, check_place, check_row
+from weirlines.exact import exact, is_integer, is_less, minus, plus, reduced, times
+from weirlines.rows import behind, check_number, check_order, check_place, check_row
 
 MOST_FEW = 8
 
@@ -53,8 +53,7 @@ def best(row, place, many):
 def fewest(row, place, number, many):
     """A shortest order of at most so many openings behind which there is a number at least, or None."""
     check_asked(row, place, many)
-    if not is_fraction(number):
-        raise BadNumber("a number is a fraction")
+    check_number(number)
     asked = exact(number)
     for found, order in greatest(row, place, many):
         if not is_less(found, asked):

@@ -2,8 +2,8 @@
 
 from weirlines.bounds import Profile, highest
 from weirlines.errors import BadNumber, NoOrder
-from weirlines.exact import exact, is_fraction, is_integer, is_less, largest, minus, reduced
-from weirlines.rows import check_place, check_row
+from weirlines.exact import exact, is_integer, is_less, largest, minus, reduced
+from weirlines.rows import check_number, check_place, check_row
 
 
 class Room:
@@ -85,11 +85,6 @@ class Chords:
 def check_basin(row, basin):
     if not is_integer(basin) or not 0 <= basin < len(row):
         raise BadNumber("a basin is an integer from 0 to less than their number")
-
-
-def check_number(number):
-    if not is_fraction(number):
-        raise BadNumber("a number is a fraction")
 
 
 def check_asked(row, basin, place, number):

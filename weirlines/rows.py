@@ -1,7 +1,7 @@
 """Rows of basins, openings of their weirs, and orders of openings."""
 
 from weirlines.errors import BadNumber, BadOrder, BadRow, BadWeir
-from weirlines.exact import Line, exact, is_fraction, is_integer, is_less, minus, plus, times
+from weirlines.exact import Line, exact, is_amount, is_fraction, is_integer, is_less, minus, plus, times
 
 MOST_BASINS = 24
 MOST_AREA = 1000
@@ -93,7 +93,7 @@ def check_volumes(volumes, many):
     if not isinstance(volumes, tuple) or len(volumes) != many:
         raise BadRow("volumes are a tuple of as many as there are areas")
     for volume in volumes:
-        if not is_fraction(volume) or is_less(exact(volume), (0, 1)):
+        if not is_amount(volume):
             raise BadRow("a volume is a fraction from 0 on")
 
 
@@ -125,6 +125,11 @@ def check_order(row, order):
 def check_place(row, place):
     if not is_integer(place) or not 0 <= place <= len(row):
         raise BadNumber("a place is an integer from 0 to the number of basins")
+
+
+def check_number(number):
+    if not is_fraction(number):
+        raise BadNumber("a number is a fraction")
 
 
 def check_width(width):

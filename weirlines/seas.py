@@ -2,7 +2,7 @@
 
 from weirlines.bounds import highest, lowest
 from weirlines.errors import BadNumber, BadRow, BadWeir, NoOrder
-from weirlines.exact import Line, exact, is_fraction, is_integer, is_less, largest, minus, reduced, times
+from weirlines.exact import Line, exact, is_amount, is_integer, largest, minus, reduced, times
 from weirlines.rows import check_order, check_place, check_row, with_volumes
 from weirlines.washing import kept_heights
 
@@ -87,7 +87,7 @@ def sea_height(told):
     """The height of a sea as a pair, None if there is no sea."""
     if told is None:
         return None
-    if not is_fraction(told) or is_less(exact(told), (0, 1)):
+    if not is_amount(told):
         raise BadNumber("the height of a sea is a fraction from 0 on")
     return exact(told)
 
