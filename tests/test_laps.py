@@ -242,6 +242,7 @@ class Recurrences(unittest.TestCase):
         for factors, firsts in (([(1, 4), (5, 4)], right[1]), (right[0], [(4, 1), (3, 1)]), (right[0], [(4, 1)]),
                                 (right[0][:1], right[1]), ([], []), ([], right[1]), (right[0], []),
                                 ([(-2, 8), (5, 4)], right[1]), (right[0], [(8, 2), (2, 1)]), ([(-1, 4), (5, 0)], right[1]),
+                                (right[0], [(4, 1), (2, 1), (3, 2)]), ([(0, 1), *right[0]], right[1]),
                                 (right[0], [(4, 1), (2, -1)]), (right[0] * 2, right[1] * 2),
                                 ([(5, 4), (-1, 4)], right[1])):
             self.assertFalse(LapRecurrence(factors, firsts).shows(program, volumes, 0), (factors, firsts))
@@ -346,14 +347,14 @@ class Attributes(unittest.TestCase):
         self.assertEqual(LapRecurrence(((1, 1),), ((2, 1),)), made)
 
     def test_equality(self):
-        made = [LapsDone(1), LapsDone(2), LapsLeft(0, 1), LapsLeft(1, 0), EvenAlways([1]), EvenAlways([]), Parted(1),
+        made = [LapsDone(1), LapsDone(2), LapsLeft(0, 1), LapsLeft(1, 1), LapsLeft(0, 0), EvenAlways([1]), EvenAlways([]), Parted(1),
                 Parted(2), LapRecurrence([], []), LapRecurrence([(1, 1)], [(1, 1)]), LapRecurrence([(1, 1)], [(2, 1)])]
         for one in range(len(made)):
             for other in range(len(made)):
                 self.assertIs(made[one] == made[other], one == other)
             self.assertNotEqual(made[one], 1)
         self.assertEqual(LapsLeft(3, 4), LapsLeft(3, 4))
-        self.assertEqual([bool(told) for told in made], [True] * 2 + [False] * 2 + [True] * 2 + [False] * 2 + [True] * 3)
+        self.assertEqual([bool(told) for told in made], [True] * 2 + [False] * 3 + [True] * 2 + [False] * 2 + [True] * 3)
 
     def test_changed(self):
         told = judge_laps(Program([ODD]), 4)

@@ -268,6 +268,27 @@ class Evidence(unittest.TestCase):
         told.volume = (8, 1)
         self.assertTrue(told.shows(row, 3, 1, 3))
 
+    def test_pairs_of_points_that_leave_more_room(self):
+        seen = 0
+        for rng, row, basin, place in cases(9, 80):
+            number = bound(row, place) + rng.randint(0, 2)
+            greatest = room_by_lines(row, basin, place, number)
+            for one, other, level in lines(row, place):
+                counts = share(row, one, other, place, basin)
+                if counts > 0:
+                    volume = (number - level) / counts
+                    told = Room(pair(volume), one, other)
+                    self.assertIs(told.shows(row, basin, place, pair(number)), volume == greatest)
+                    seen += volume != greatest
+        self.assertGreater(seen, 50)
+
+    def test_what_is_passed_already(self):
+        # With less than nothing added, the straight line would give the number.
+        row = Row((1, 1, 1, 1), (0, 0, 2, 2))
+        self.assertFalse(Room((-2, 1), 0, 4).shows(row, 3, 1, (1, 2)))
+        self.assertFalse(Room((-1, 1), 0, 4).shows(row, 3, 4, 3))
+        self.assertFalse(Room((0, 1), 0, 4).shows(row, 3, 4, 3))
+
     def test_equality_and_bool(self):
         self.assertEqual(Room((0, 1), 0, 1), Room((0, 1), 0, 1))
         for other in (Room((1, 1), 0, 1), Room((0, 1), 1, 1), Room((0, 1), 0, 2), ((0, 1), 0, 1), highest(Row((1,), (0,)), 0)):

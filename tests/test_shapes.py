@@ -255,6 +255,11 @@ class Evidence(unittest.TestCase):
         self.assertEqual(More([(1, 2)]), More(((1, 2),)))
         self.assertNotEqual(More([]), Rivals([]))
         self.assertNotEqual(Dominant([]), More([]))
+        self.assertNotEqual(Dominant([1]), Dominant([2]))
+        self.assertNotEqual(Rivals([(1, 2)]), Rivals([(1, 3)]))
+        self.assertNotEqual(More([(1, 2)]), More([(1, 3)]))
+        self.assertNotEqual(Less(1), Less(2))
+        self.assertNotEqual(Rivals([]), More([]))
         self.assertNotEqual(Less(0), 0)
         self.assertEqual(Less(0), Less(0))
         self.assertEqual([bool(told) for told in (More([]), Less(0), Dominant([]), Rivals([]))],
@@ -290,6 +295,8 @@ class Refused(unittest.TestCase):
         for shape in ("none", "", None, 0, ["any"], ("any",), True, "Any"):
             more, dominant = self.all_calls((1, 1), None, None, None, None, shape, [1])
             self.assertEqual(len(list(self.refuse(BadNumber, more + dominant))), 6)
+            more, dominant = self.all_calls((1, 1), [], [], 1, 1, shape, ())
+            self.assertEqual(len(list(self.refuse(BadNumber, more + dominant))), 6)
 
     def test_orders_ahead_of_places(self):
         for one, other, place in ((None, None, None), ([1, 2], [True], 1), ([1, 1, 1, 3], None, 3), ([1] * 20001, 1, None),
@@ -299,8 +306,9 @@ class Refused(unittest.TestCase):
 
     def test_places(self):
         for place in (-1, 3, True, None, "1", (1, 1)):
-            more, dominant = self.all_calls((1, 1), [1], [], place, None, "falling", ())
-            self.assertEqual(len(list(self.refuse(BadNumber, more + dominant))), 6)
+            for many in (None, 1):
+                more, dominant = self.all_calls((1, 1), [1], [], place, many, "falling", ())
+                self.assertEqual(len(list(self.refuse(BadNumber, more + dominant))), 6)
 
     def test_numbers_of_openings(self):
         for many in (-1, 9, True, None, "1", (1, 1)):
